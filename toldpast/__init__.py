@@ -1,0 +1,1 @@
+"""Toldpast: synchronous networks of uninterpreted gates, compared from the first turn."""
