@@ -205,7 +205,7 @@ class TestRead(unittest.TestCase):
                  "f(x@1)@2", "f@1(a)", "@", "x@", "@1", "x@@1", "x@1@2", "x@-1", "x@+1", "x@01", "x@00", "x@a", "x@1a",
                  "x@ 1", "x @1", "x@1 ", "x@1000000", "x@0999999", "X@1", "1@1", "abcdefghi@1", "f(x@)", "f(x@1000000)",
                  "f(x@01)", "f(@1)", "x@1,", "-a", "a.b", "...", "f(a)f", "ff(a)(", "f(a,b)(c)", "f(a()),", "f(())",
-                 "f(a)g()", "f(a)g(,b)", "f(a)g(b)", "f(g(a)h(b))", "f(g(a)(b))", "f(g(a)h(),b)", "f(a,g(b)h)", "f(x@1g(a))"]
+                 "f(a)g()", "f(a)g(,b)", "f(a)g(b)", "f(g(a)h(b))", "f(g(a)h(b)", "f(g(a)(b)", "f(g(a)h(),b)", "f(a,g(b)h)", "f(x@1g(a))"]
         book = Book(ROWS)
         for text in wrong:
             check_refused(self, book, InvalidString, {"value": text}, book.read, text)
