@@ -14,6 +14,16 @@ FUNCTIONS = {
         "parse_integer": "(text, *, low=0, high=999999)", "split_words": "(text, *, separator=' ')",
     },
     "books": {"same_term": "(book, number, other, other_number)"},
+    "nets": {"renamed": "(net, names)"},
+    "nettext": {
+        "edge_text": "(source, starts)", "edge_of": "(word)", "text_of": "(net, *, first=0, step=1)", "net_of": "(text)",
+    },
+    "runs": {
+        "answers": "(net, meaning, rows, *, first=0)", "turns": "(net, meaning, rows)", "free_run": "(net, count)",
+    },
+    "least": {
+        "distances": "(net)", "advanced": "(net)", "classes": "(net)", "least": "(net)", "canonical": "(net)",
+    },
 }
 
 METHODS = {
@@ -27,9 +37,27 @@ METHODS = {
             "differ": "(self, one, other)",
         },
     },
+    "nets": {
+        "Net": {
+            "__init__": "(self, inputs, gates, outs, terms=())", "terms": "(self)", "inputs": "(self)",
+            "names": "(self)", "outs": "(self)", "edges": "(self, name)", "symbol": "(self, name)", "rows": "(self)",
+            "readers": "(self, name)", "delays": "(self, reader, slot)", "source": "(self, reader, slot)",
+            "__len__": "(self)", "__contains__": "(self, value)", "__getitem__": "(self, name)",
+            "__eq__": "(self, other)",
+        },
+    },
+    "runs": {
+        "Machine": {
+            "__init__": "(self, net, meaning)", "__call__": "(self, values)", "value_at": "(self, name)",
+            "stored": "(self)", "copy": "(self)", "reset": "(self)",
+        },
+    },
 }
 
-MODULES = ["books", "errors", "validation"]
+PROPERTIES = {"runs": {"Machine": ["turn"]}}
+
+MODULES = ["books", "errors", "freeturns", "least", "netchecks", "nets", "nettext", "runs", "termrows", "validation",
+           "wiring"]
 
 
 def definitions(module):
@@ -58,6 +86,18 @@ class TestInterface(unittest.TestCase):
                 for method, signature in methods.items():
                     self.assertIn(method, defined)
                     self.assertEqual(signature, str(inspect.signature(getattr(getattr(found, name), method))), method)
+
+    def test_properties(self):
+        for module, classes in PROPERTIES.items():
+            found = importlib.import_module("toldpast." + module)
+            for name, properties in classes.items():
+                for word in properties:
+                    self.assertIsInstance(vars(getattr(found, name))[word], property)
+
+    def test_turns_is_a_generator(self):
+        found = importlib.import_module("toldpast.runs")
+        self.assertTrue(inspect.isgeneratorfunction(found.turns))
+        self.assertFalse(inspect.isgeneratorfunction(found.answers))
 
     def test_the_package_holds_an_init_and_the_modules(self):
         found = [name for name in os.listdir(os.path.join(ROOT, "toldpast")) if name != "__pycache__"]

@@ -2,6 +2,7 @@
 
 import ast
 import builtins
+import functools
 import importlib
 import os
 import re
@@ -38,9 +39,15 @@ def text_of_file(name):
         return file.read()
 
 
+@functools.cache
+def tree_of(name):
+    """What a file consists of."""
+    return ast.parse(text_of_file(name))
+
+
 def nodes(name, *kinds):
     """The nodes of some kinds in a file."""
-    return [node for node in ast.walk(ast.parse(text_of_file(name))) if isinstance(node, kinds)]
+    return [node for node in ast.walk(tree_of(name)) if isinstance(node, kinds)]
 
 
 def imported(name):
@@ -83,7 +90,7 @@ class TestFiles(unittest.TestCase):
 
     def test_module_level(self):
         for name in files():
-            for node in ast.parse(text_of_file(name)).body:
+            for node in tree_of(name).body:
                 if isinstance(node, ast.Expr):
                     self.assertIsInstance(node.value.value, str)
                 elif isinstance(node, ast.Assign):
@@ -116,7 +123,7 @@ class TestImports(unittest.TestCase):
         for name in files():
             used = [node.id for node in nodes(name, ast.Name)]
             bound = [item for _, names in imported(name) for item in names]
-            bound = bound + [node.name for node in ast.parse(text_of_file(name)).body if hasattr(node, "name")]
+            bound = bound + [node.name for node in tree_of(name).body if hasattr(node, "name")]
             self.assertEqual(len(bound), len(set(bound)), name)
             for _, names in imported(name):
                 self.assertEqual([], [item for item in names if item not in used], name)
@@ -152,11 +159,12 @@ class TestCode(unittest.TestCase):
             given = [node.name for node in nodes(name, ast.FunctionDef, ast.ClassDef)]
             given = given + [node.arg for node in nodes(name, ast.arg)]
             given = given + [node.id for node in nodes(name, ast.Name) if isinstance(node.ctx, ast.Store)]
+            methods = own_methods()
             for word in given:
                 self.assertNotIn(word, BARRED_NAMES)
                 self.assertNotIn(word, vars(builtins))
                 self.assertTrue(re.fullmatch("_?[A-Za-z][A-Za-z0-9_]*|_|__[a-z]+__", word), word)
-                self.assertFalse(word.startswith("__") and word not in own_methods(), word)
+                self.assertFalse(word.startswith("__") and word not in methods, word)
 
     def test_no_generator_expressions_where_books_are_compared(self):
         for name in files():
@@ -183,6 +191,81 @@ class TestCode(unittest.TestCase):
                 self.assertEqual(len(methods), len(set(methods)))
                 self.assertTrue("__getitem__" not in methods or "__iter__" in methods, node.name)
 
+    def test_sets_are_not_used(self):
+        for name in files():
+            self.assertEqual([], nodes(name, ast.Set, ast.SetComp), name)
+            self.assertNotIn("set", [node.id for node in nodes(name, ast.Name)])
+            self.assertNotIn("frozenset", [node.id for node in nodes(name, ast.Name)])
+
+    def test_generators(self):
+        every = [node.name for name in files() for node in nodes(name, ast.FunctionDef)]
+        for name in files():
+            used = [node.id for node in nodes(name, ast.Name)]
+            self.assertEqual([], [word for word in used if word in ("next", "StopIteration")])
+            for node in nodes(name, ast.FunctionDef):
+                yields = [inner for inner in ast.walk(node) if isinstance(inner, (ast.Yield, ast.YieldFrom))]
+                plain = [inner.value for inner in ast.walk(node) if isinstance(inner, ast.Expr)]
+                self.assertEqual([], [inner for inner in yields if inner not in plain], node.name)
+                if yields:
+                    self.assertEqual([node.name], [word for word in every if word == node.name])
+                    self.assertEqual([], [inner for inner in ast.walk(node) if isinstance(inner, ast.Return)])
+
+    def test_local_names_are_not_those_of_classes_and_imports(self):
+        for name in files():
+            outer = [item for _, names in imported(name) for item in names]
+            outer += [node.name for node in tree_of(name).body if hasattr(node, "name")]
+            local = [node.arg for node in nodes(name, ast.arg)]
+            local += [node.id for node in nodes(name, ast.Name) if isinstance(node.ctx, ast.Store)]
+            self.assertEqual([], [word for word in local if word in outer], name)
+
+    def test_keywords_of_calls(self):
+        for name in files():
+            for node in nodes(name, ast.Call):
+                for keyword in node.keywords:
+                    self.assertIn(keyword.arg, ("default", "key", "reverse", "separator", "low", "high"), name)
+
+    def test_no_errors_are_caught(self):
+        for name in files():
+            self.assertEqual([], nodes(name, ast.Try), name)
+
+
+class TestClasses(unittest.TestCase):
+
+    def stored(self, node):
+        """The names of the attributes that are assigned in a class."""
+        return [inner.attr for inner in ast.walk(node) if isinstance(inner, ast.Attribute)
+                and isinstance(inner.ctx, ast.Store)]
+
+    def test_no_name_is_a_method_and_an_attribute(self):
+        attributes = [word for name in files() for node in nodes(name, ast.ClassDef) for word in self.stored(node)]
+        methods = own_methods()
+        self.assertEqual([], [word for word in attributes if word in methods])
+        barred = """items keys values pop update append clear extend insert remove reverse setdefault sort args encode
+            decode hex fromhex format mro""".split()
+        self.assertEqual([], [word for word in attributes if word in barred])
+        self.assertNotIn("keys", own_methods())
+
+    def test_attributes_that_are_read_are_assigned_or_methods(self):
+        attributes = [word for name in files() for node in nodes(name, ast.ClassDef) for word in self.stored(node)]
+        known = attributes + own_methods() + METHODS
+        for name in files():
+            for node in nodes(name, ast.Attribute):
+                self.assertIn(node.attr, known, name)
+
+    def test_operators_change_nothing(self):
+        signs = ["__eq__", "__len__", "__contains__", "__getitem__", "__iter__"]
+        for name in files():
+            for node in nodes(name, ast.FunctionDef):
+                if node.name in signs or node.decorator_list:
+                    for inner in ast.walk(node):
+                        self.assertNotIsInstance(inner, (ast.Assign, ast.AugAssign, ast.Delete), (name, node.name))
+
+    def test_properties_have_no_name_of_a_method_of_a_builtin_value(self):
+        for name in files():
+            for node in nodes(name, ast.FunctionDef):
+                if node.decorator_list:
+                    self.assertNotIn(node.name, METHODS)
+                    self.assertEqual(["self"], [argument.arg for argument in node.args.args])
 
 
 if __name__ == "__main__":

@@ -2,6 +2,7 @@
 
 from toldpast.errors import InvalidBook, InvalidMeaning, InvalidName, InvalidPart, InvalidRow, InvalidString
 from toldpast.errors import InvalidTurn, InvalidValues, TooLong, UnknownSample, UnknownSymbol, UnknownTerm
+from toldpast.termrows import arguments_of, moved_row
 from toldpast.validation import MOST_ARGUMENTS, is_integer, is_list, is_name, is_whole, parse_integer
 
 LONGEST_TEXT = 400
@@ -29,7 +30,7 @@ class Book:
             raise InvalidRow(item)
         if not is_name(item[0]):
             raise InvalidName(item[0])
-        if not self._has_all(_arguments(item)) or _kept_row(item) in self._numbers:
+        if not self._has_all(arguments_of(item)) or _kept_row(item) in self._numbers:
             raise InvalidRow(item)
         self._entered(_kept_row(item))
 
@@ -50,7 +51,7 @@ class Book:
         """Return the number of a row, which is added if the book does not contain it."""
         if row in self._numbers:
             return self._numbers[row]
-        numbers = _arguments(row)
+        numbers = arguments_of(row)
         bare_text = _row_text(row, [""] * len(numbers))
         size = 1 + sum([self._sizes[number] for number in numbers])
         depth = 1 + max([self._depths[number] for number in numbers], default=0)
@@ -101,7 +102,7 @@ class Book:
         raise TypeError("a book is not iterated over, its rows() are")
 
     def __contains__(self, value):
-        if not _has_row_form(value) or not is_name(value[0]) or not self._has_all(_arguments(value)):
+        if not _has_row_form(value) or not is_name(value[0]) or not self._has_all(arguments_of(value)):
             return False
         return _kept_row(value) in self._numbers
 
@@ -119,7 +120,7 @@ class Book:
         waiting = [number]
         while waiting:
             row = self._rows[waiting.pop()]
-            for part in _arguments(row):
+            for part in arguments_of(row):
                 if part not in found:
                     found[part] = True
                     waiting.append(part)
@@ -143,7 +144,7 @@ class Book:
         texts = {}
         for part in self.parts(number):
             row = self._rows[part]
-            texts[part] = _row_text(row, [texts[argument] for argument in _arguments(row)])
+            texts[part] = _row_text(row, [texts[argument] for argument in arguments_of(row)])
         return texts[number]
 
     def read(self, text):
@@ -179,7 +180,7 @@ class Book:
         parts = other.parts(number)
         places = {}
         for part in parts:
-            places[part] = self._entered(_moved_row(other._rows[part], places))
+            places[part] = self._entered(moved_row(other._rows[part], places))
         return places[number]
 
     def differ(self, one, other):
@@ -199,7 +200,7 @@ class Book:
     def _compared(self, one, other):
         """Return the arguments of two terms if they have the same symbol, otherwise nothing twice."""
         row, other_row = self._rows[one], self._rows[other]
-        arguments, others = _arguments(row), _arguments(other_row)
+        arguments, others = arguments_of(row), arguments_of(other_row)
         if row[0] != other_row[0] or len(arguments) != len(others):
             return (), ()
         return arguments, others
@@ -211,7 +212,7 @@ def same_term(book, number, other, other_number):
     _require_term(other, other_number)
     places = {}
     for part in book.parts(number):
-        row = _moved_row(book._rows[part], places)
+        row = moved_row(book._rows[part], places)
         if row not in other._numbers:
             return False
         places[part] = other._numbers[row]
@@ -239,22 +240,10 @@ def _has_row_form(value):
     return _is_turn(value[1])
 
 
-def _arguments(row):
-    """Return the numbers of the arguments of a row; a sample has none."""
-    return row[1] if is_list(row[1]) else ()
-
-
 def _kept_row(row):
     """Return a row as a book keeps it, with tuples in place of lists."""
     last = tuple(row[1]) if is_list(row[1]) else row[1]
     return row[0], last
-
-
-def _moved_row(row, places):
-    """Return a row with the numbers that its arguments have in another book."""
-    if not is_list(row[1]):
-        return row
-    return row[0], tuple([places[number] for number in row[1]])
 
 
 def _row_text(row, texts):
