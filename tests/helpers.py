@@ -3,6 +3,7 @@
 import signal
 
 from toldpast.books import Book
+from toldpast.lags import Lags
 from toldpast.nets import Net
 from toldpast.runs import Machine
 
@@ -36,7 +37,7 @@ def any_values():
         [("a", ())], {"a": 1, 2: [3]}, [[[[[["a"]]]]]], ("a", ("b", ("c", ()))), ("f", {}), ("f", None),
         [None] * 200, Book(), Book([("a", ())]), {"x": [1]}, {"x": None}, [True, False], ("a", "b"), [Book()],
         small_net(), Net([], [], []), [small_net()], {"x": small_net()}, ("x", small_net()),
-        Machine(small_net(), small_meaning()),
+        Machine(small_net(), small_meaning()), Lags({}), Lags({"g": 1}), [Lags({"g": 1})], {"g": Lags({})}, {"g": True},
     ]
 
 

@@ -24,6 +24,12 @@ FUNCTIONS = {
     "least": {
         "distances": "(net)", "advanced": "(net)", "classes": "(net)", "least": "(net)", "canonical": "(net)",
     },
+    "compare": {
+        "alike": "(one, other)", "first_unlike": "(one, other)", "difference": "(one, other)", "settles": "(one, other)",
+        "parting": "(one, other)", "meaning_of": "(tables)",
+    },
+    "depths": {"depths": "(net)", "past": "(net, gate)", "bar": "(net, gate)"},
+    "lags": {"lagged": "(net, lags)", "deepest": "(net)", "related": "(one, other)"},
 }
 
 METHODS = {
@@ -52,12 +58,19 @@ METHODS = {
             "stored": "(self)", "copy": "(self)", "reset": "(self)",
         },
     },
+    "lags": {
+        "Lags": {
+            "__init__": "(self, rows)", "__getitem__": "(self, name)", "rows": "(self)", "__eq__": "(self, other)",
+            "__or__": "(self, other)", "__and__": "(self, other)", "__add__": "(self, other)",
+            "__sub__": "(self, other)", "__neg__": "(self)", "__abs__": "(self)", "is_below": "(self, other)",
+        },
+    },
 }
 
 PROPERTIES = {"runs": {"Machine": ["turn"]}}
 
-MODULES = ["books", "errors", "freeturns", "least", "netchecks", "nets", "nettext", "runs", "termrows", "validation",
-           "wiring"]
+MODULES = ["books", "compare", "depths", "errors", "freeturns", "lags", "least", "matching", "netchecks", "nets",
+           "nettext", "pairs", "pasts", "runs", "termrows", "validation", "wiring"]
 
 
 def definitions(module):

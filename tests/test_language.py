@@ -253,7 +253,8 @@ class TestClasses(unittest.TestCase):
                 self.assertIn(node.attr, known, name)
 
     def test_operators_change_nothing(self):
-        signs = ["__eq__", "__len__", "__contains__", "__getitem__", "__iter__"]
+        signs = ["__eq__", "__len__", "__contains__", "__getitem__", "__iter__", "__or__", "__and__", "__add__", "__sub__",
+                 "__neg__", "__abs__"]
         for name in files():
             for node in nodes(name, ast.FunctionDef):
                 if node.name in signs or node.decorator_list:

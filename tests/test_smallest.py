@@ -1,12 +1,11 @@
 """[63], [64], [65], [66]: classes of gates, the smallest network, and its standard form."""
 
-import random
 import unittest
 
 from helpers import check_new, limit_seconds, small_net, spoil
+from kin import hastened, shuffled
 from model import Model, answers_of, doubled_net, early_ring_net, given_rows, many_nets, mixing_meaning, random_net
 from model import rings_net
-from toldpast.errors import Idle
 from toldpast.least import advanced, canonical, classes, distances, least
 from toldpast.nets import Net, renamed
 from toldpast.nettext import net_of, text_of
@@ -28,51 +27,6 @@ def classes_by_values(net, count=LONG):
     for name in net.names():
         found.setdefault(tuple(model.value(name, turn) for turn in range(count)), []).append(name)
     return list(found.values())
-
-
-def shuffled(net, seed):
-    """A network that is alike: its gates in another order, with other names, and some of them twice."""
-    chance = random.Random(seed)
-    inputs, gates, outs, terms = net.rows()
-    gates = list(gates)
-    chance.shuffle(gates)
-    names = {name: "zyxwvuts"[place] + str(chance.randrange(9)) for place, name in enumerate(net.names())}
-    net = renamed(Net(inputs, gates, outs, terms), names)
-    inputs, gates, outs, terms = net.rows()
-    for number, (source, starts) in enumerate(outs):
-        if len(net) < 8 and source not in inputs and chance.randrange(2):
-            net = split(net, number)
-    return net
-
-
-def split(net, number):
-    """The network with a second gate for one out, if the first one has other readers."""
-    inputs, gates, outs, terms = net.rows()
-    source, starts = outs[number]
-    outs[number] = (f"k{number}", starts)
-    try:
-        return Net(inputs, [*gates, (f"k{number}", *net[source])], outs, terms)
-    except Idle:
-        return net
-
-
-def hastened(net):
-    """The network with each gate one turn early, one after the other, that has a delay on each of its edges."""
-    for name in net.names():
-        inputs, gates, outs, terms = net.rows()
-        symbol, edges = net[name]
-        if all(starts for _, starts in edges):
-            # The value of the gate at turn 0 is stored behind it, and its own edges begin a turn later.
-            terms.append((symbol, tuple(starts[0] for _, starts in edges)))
-
-            def behind(edge):
-                return (edge[0], edge[1] + [len(terms) - 1]) if edge[0] == name else edge
-            moved = []
-            for gate, sign, inner in gates:
-                inner = [behind(edge) for edge in inner]
-                moved.append((gate, sign, [(s, starts[1:]) for s, starts in inner] if gate == name else inner))
-            net = Net(inputs, moved, [behind(edge) for edge in outs], terms)
-    return net
 
 
 class TestClasses(unittest.TestCase):

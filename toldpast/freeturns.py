@@ -2,21 +2,21 @@
 
 from toldpast.nets import Net, symbols_of
 from toldpast.runs import Machine
-from toldpast.termrows import TermTable, free_meaning
+from toldpast.termrows import free_meaning
 from toldpast.wiring import all_starts
 
 
 class FreeTurns:
-    """The first turns of a network with the free meaning; values are numbers of terms and samples."""
+    """The first turns of a network with the free meaning; values are numbers of terms and samples in a table."""
 
-    def __init__(self, net, count):
-        self._table = TermTable()
-        self._starts = self._table.enter_terms(net.terms())
+    def __init__(self, net, count, table):
+        self._table = table
+        self._starts = table.enter_terms(net.terms())
         self._history = []
-        machine = Machine(net, free_meaning(self._table, symbols_of(net)))
+        machine = Machine(net, free_meaning(table, symbols_of(net)))
         inputs, names = net.inputs(), net.names()
         for turn in range(count):
-            machine([self._table.enter((name, turn)) for name in inputs])
+            machine([table.enter((name, turn)) for name in inputs])
             self._history.append({name: machine.value_at(name) for name in names})
 
     def delivered(self, edge, first, end):

@@ -2,6 +2,7 @@
 
 from toldpast.freeturns import FreeTurns
 from toldpast.nets import Net, renamed, require_net
+from toldpast.termrows import TermTable
 
 
 def distances(net):
@@ -24,7 +25,7 @@ def advanced(net):
     """Return the network in which each gate works as early as the inputs permit."""
     early = distances(net)
     inputs, gates, outs, _ = net.rows()
-    run = FreeTurns(net, max(list(early.values()), default=0))
+    run = FreeTurns(net, max(list(early.values()), default=0), TermTable())
     moved = [(name, symbol, _advanced_edges(run, edges, early, early[name])) for name, symbol, edges in gates]
     return run.begun(inputs, moved, _advanced_edges(run, outs, early, 0))
 

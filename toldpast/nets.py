@@ -1,9 +1,9 @@
 """Networks of gates, joined by edges with delays, and networks with other names."""
 
-from toldpast.errors import InvalidName, InvalidNet, InvalidPart, UnknownEdge, UnknownGate, UnknownSource
+from toldpast.errors import InvalidName, InvalidNet, InvalidPart, Mismatch, UnknownEdge, UnknownGate, UnknownSource
 from toldpast.netchecks import check_parts
 from toldpast.termrows import TermTable
-from toldpast.validation import is_integer, is_name
+from toldpast.validation import is_integer, is_name, ordered_keys
 from toldpast.wiring import all_starts
 
 
@@ -38,12 +38,12 @@ class Net:
 
     def edges(self, name):
         """Return the edges of a gate."""
-        self._require_gate(name)
+        require_gate(self, name)
         return _given_edges(self._edges[name])
 
     def symbol(self, name):
         """Return the name of the symbol of a gate."""
-        self._require_gate(name)
+        require_gate(self, name)
         return self._symbols[name]
 
     def outs(self):
@@ -86,26 +86,21 @@ class Net:
 
     def _edges_to(self, reader):
         """Return the edges to a gate or an out; any other value has none."""
-        if self._has_gate(reader):
+        if self.has_gate(reader):
             return self._edges[reader]
         if is_integer(reader, 0, len(self._outs) - 1):
             return [self._outs[reader]]
         return []
 
-    def _has_gate(self, name):
+    def has_gate(self, name):
         """Tell whether a value is the name of a gate."""
         return is_name(name) and name in self._edges
-
-    def _require_gate(self, name):
-        """Raise UnknownGate if a value is not the name of a gate."""
-        if not self._has_gate(name):
-            raise UnknownGate(name)
 
     def __len__(self):
         return len(self._names)
 
     def __contains__(self, value):
-        return self._has_gate(value) or value in self._inputs
+        return self.has_gate(value) or value in self._inputs
 
     def __getitem__(self, name):
         return self.symbol(name), self.edges(name)
@@ -133,6 +128,20 @@ def require_net(value):
         raise InvalidNet(value)
 
 
+def require_pair(one, other):
+    """Raise an exception if two values are not networks with the same inputs and with as many outs."""
+    require_net(one)
+    require_net(other)
+    if one.inputs() != other.inputs() or len(one.outs()) != len(other.outs()):
+        raise Mismatch(other)
+
+
+def require_gate(net, name):
+    """Raise UnknownGate if a value is not the name of a gate of a network."""
+    if not net.has_gate(name):
+        raise UnknownGate(name)
+
+
 def symbols_of(net):
     """Return the names of the symbols of a network: those of its terms, and then those of its gates."""
     return [name for name, _ in net.terms()] + [net.symbol(name) for name in net.names()]
@@ -157,13 +166,9 @@ def renamed(net, names):
 
 def _check_keys(names, net):
     """Raise UnknownSource if a key of a dict is no input or gate."""
-    unknown = [key for key in names if key not in net]
-    if unknown:
-        # Of several keys the least one is told, so that it does not matter in which order they were put in.
-        words = sorted([key for key in unknown if isinstance(key, str)])
-        numbers = sorted([key for key in unknown if isinstance(key, int)])
-        told = words + numbers + unknown
-        raise UnknownSource(told[0])
+    for key in ordered_keys(names):
+        if key not in net:
+            raise UnknownSource(key)
 
 
 def _moved_edges(edges, names):

@@ -146,8 +146,13 @@ def free_run(net, count):
     if not is_integer(count, 0, MOST_TURNS):
         raise InvalidTurn(count)
     table = TermTable()
-    machine = Machine(net, free_meaning(table, symbols_of(net)))
-    inputs = net.inputs()
-    told = [machine([table.enter((name, turn)) for name in inputs]) for turn in range(count)]
+    told = free_answers(net, table, count)
     rows, places = table.used([number for numbers in told for number in numbers])
     return rows, [[places[number] for number in numbers] for numbers in told]
+
+
+def free_answers(net, table, count):
+    """Return the answers of a network at its first turns with terms as values: numbers of rows in a table."""
+    machine = Machine(net, free_meaning(table, symbols_of(net)))
+    inputs = net.inputs()
+    return [machine([table.enter((name, turn)) for name in inputs]) for turn in range(count)]

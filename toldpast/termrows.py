@@ -21,6 +21,10 @@ class TermTable:
             self._listed.append(row)
         return self._places[row]
 
+    def row(self, number):
+        """Return the row with a number."""
+        return self._listed[number]
+
     def enter_terms(self, terms):
         """Return the numbers of the rows of a list, whose arguments are indices of earlier rows of that list."""
         numbers = []

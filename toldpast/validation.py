@@ -63,3 +63,10 @@ def split_words(text, *, separator=" "):
         return None
     words = text.split(separator)
     return None if "" in words else words
+
+
+def ordered_keys(table):
+    """Return the keys of a dict, the strings first, in an order that does not depend on how they were put in."""
+    words = sorted([key for key in table if isinstance(key, str)])
+    numbers = sorted([key for key in table if isinstance(key, int)])
+    return words + numbers + [key for key in table if not isinstance(key, (str, int))]
