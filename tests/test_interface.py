@@ -30,6 +30,15 @@ FUNCTIONS = {
     },
     "depths": {"depths": "(net)", "past": "(net, gate)", "bar": "(net, gate)"},
     "lags": {"lagged": "(net, lags)", "deepest": "(net)", "related": "(one, other)"},
+    "moves": {
+        "move": "(net, gate, step)", "moves": "(net)", "stages": "(net, steps)", "plan": "(net, lags, *, start=None)",
+        "ranges": "(net)", "all_lags": "(net, *, most=200)",
+    },
+    "wishes": {
+        "is_wish": "(value)", "meet": "(net, wishes, *, greatest=False)", "bounds": "(net, wishes)",
+        "shows_none": "(net, wishes, ring)",
+    },
+    "joins": {"series": "(one, other)", "beside": "(*nets)", "looped": "(net, out, entry, starts, terms=())"},
 }
 
 METHODS = {
@@ -65,12 +74,19 @@ METHODS = {
             "__sub__": "(self, other)", "__neg__": "(self)", "__abs__": "(self)", "is_below": "(self, other)",
         },
     },
+    "session": {
+        "Session": {
+            "__init__": "(self, net)", "net": "(self)", "first": "(self)", "done": "(self)", "__len__": "(self)",
+            "say": "(self, line)", "say_all": "(self, lines)",
+        },
+    },
 }
 
-PROPERTIES = {"runs": {"Machine": ["turn"]}}
+PROPERTIES = {"runs": {"Machine": ["turn"]}, "session": {"Session": ["busy"]}}
 
-MODULES = ["books", "compare", "depths", "errors", "freeturns", "lags", "least", "matching", "netchecks", "nets",
-           "nettext", "pairs", "pasts", "runs", "termrows", "validation", "wiring"]
+MODULES = ["books", "commands", "compare", "depths", "edits", "errors", "freeturns", "joins", "lags", "least", "matching",
+           "moves", "netchecks", "nets", "nettext", "pairs", "pasts", "questions", "runs", "session", "spans", "termrows",
+           "validation", "wishes", "wiring"]
 
 
 def definitions(module):
@@ -107,10 +123,12 @@ class TestInterface(unittest.TestCase):
                 for word in properties:
                     self.assertIsInstance(vars(getattr(found, name))[word], property)
 
-    def test_turns_is_a_generator(self):
-        found = importlib.import_module("toldpast.runs")
-        self.assertTrue(inspect.isgeneratorfunction(found.turns))
-        self.assertFalse(inspect.isgeneratorfunction(found.answers))
+    def test_generators(self):
+        for module, functions in FUNCTIONS.items():
+            found = importlib.import_module("toldpast." + module)
+            for name in functions:
+                expected = name in ("turns", "stages")
+                self.assertIs(expected, inspect.isgeneratorfunction(getattr(found, name)), name)
 
     def test_the_package_holds_an_init_and_the_modules(self):
         found = [name for name in os.listdir(os.path.join(ROOT, "toldpast")) if name != "__pycache__"]

@@ -224,9 +224,39 @@ class TestCode(unittest.TestCase):
                 for keyword in node.keywords:
                     self.assertIn(keyword.arg, ("default", "key", "reverse", "separator", "low", "high"), name)
 
-    def test_no_errors_are_caught(self):
+    def test_only_own_errors_are_caught(self):
         for name in files():
-            self.assertEqual([], nodes(name, ast.Try), name)
+            own = [item for module, names in imported(name) if module == "toldpast.errors" for item in names]
+            for node in nodes(name, ast.Try):
+                for handler in node.handlers:
+                    self.assertIn(handler.type.id, own)
+                # What is done in the end is an assignment of a literal to an attribute.
+                for inner in node.finalbody:
+                    self.assertIsInstance(inner, ast.Assign)
+                    self.assertEqual([ast.Attribute], [target.__class__ for target in inner.targets])
+                    self.assertIsInstance(inner.value, ast.Constant)
+
+    def test_tables_of_functions(self):
+        for name in files():
+            lines = {node.name: node.lineno for node in tree_of(name).body if isinstance(node, ast.FunctionDef)}
+            for node in tree_of(name).body:
+                if isinstance(node, ast.Assign) and isinstance(node.value, ast.Dict):
+                    for value in node.value.values:
+                        if isinstance(value, ast.Name):
+                            self.assertLess(lines[value.id], node.lineno)
+                        else:
+                            self.assertIsInstance(value, (ast.Constant, ast.Tuple))
+            for node in nodes(name, ast.Call):
+                self.assertIsInstance(node.func, (ast.Name, ast.Attribute), "called from an item")
+
+    def test_stars_stand_before_names(self):
+        for name in files():
+            for node in nodes(name, ast.Starred):
+                self.assertIsInstance(node.value, (ast.Name, ast.Attribute, ast.Call, ast.Subscript))
+            for node in nodes(name, ast.Call):
+                for argument in node.args:
+                    if isinstance(argument, ast.Starred):
+                        self.assertIsInstance(argument.value, ast.Name, name)
 
 
 class TestClasses(unittest.TestCase):

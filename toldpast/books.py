@@ -150,9 +150,7 @@ class Book:
     def read(self, text):
         """Return the number of the term that a string represents, whose new parts are added."""
         # The term is read into a book of its own first, so that a string that is refused adds nothing here.
-        found = None
-        if isinstance(text, str) and len(text) <= LONGEST_TEXT:
-            found = _read_book(text)
+        found = read_book(text)
         if found is None:
             raise InvalidString(text)
         return self.carry(found, len(found) - 1)
@@ -289,8 +287,10 @@ def _row_value(row, meaning, samples, values):
     return function([values[number] for number in last])
 
 
-def _read_book(text):
-    """Return a book whose last row is the term that a string represents, or None if there is none."""
+def read_book(text):
+    """Return a book whose last row is the term that a value represents as a string, or None if it represents none."""
+    if not isinstance(text, str) or len(text) > LONGEST_TEXT:
+        return None
     book = Book()
     opened = []
     # The number of the term that has just ended, or None where a term must begin.

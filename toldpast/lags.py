@@ -69,29 +69,24 @@ def _names_of(one, other):
     return [*one._rows, *other._rows]
 
 
-def lagged(net, lags):
-    """Return the network in which each gate works as many turns later as its lag says."""
+def require_allowed(net, lags):
+    """Return an argument as lags if they are allowed for a network; otherwise raise what they are refused with."""
     require_net(net)
     given = lags if isinstance(lags, Lags) else Lags(lags)
     unknown = [name for name in given.rows() if not net.has_gate(name)]
     if unknown:
         raise UnknownGate(min(unknown))
-    late = {name: given[name] for name in [*net.inputs(), *net.names()]}
-    _require_delays(net, late)
-    table = TermTable()
-    pasts = Pasts(net, table)
+    _require_delays(net, _all_lags_of(net, given))
+    deep = depths(net)
     for name in net.names():
-        if late[name] > pasts.depth(name):
+        if given[name] > deep[name]:
             raise TooDeep(name)
-    run = FreeTurns(net, -min(list(late.values()), default=0), table)
-    inputs, gates, outs, _ = net.rows()
-    moved = []
-    for name, symbol, edges in gates:
-        # What the gate reads before its former turn 0 is told by its past values, the earliest one first.
-        before = pasts.numbers_of(name)[:max(0, late[name])][::-1]
-        told = [[table.row(number)[1][slot] for number in before] for slot in range(len(edges))]
-        moved.append((name, symbol, _lagged_edges(run, edges, late, late[name], told)))
-    return run.begun(inputs, moved, _lagged_edges(run, outs, late, 0, [[] for _ in outs]))
+    return given
+
+
+def _all_lags_of(net, given):
+    """Return a dict of the lags of all inputs and gates."""
+    return {name: given[name] for name in net.inputs() + net.names()}
 
 
 def _require_delays(net, late):
@@ -104,6 +99,22 @@ def _require_delays(net, late):
     for number, (source, starts) in enumerate(outs):
         if len(starts) - late[source] < 0:
             raise TooShort(number, 0)
+
+
+def lagged(net, lags):
+    """Return the network in which each gate works as many turns later as its lag says."""
+    late = _all_lags_of(net, require_allowed(net, lags))
+    table = TermTable()
+    pasts = Pasts(net, table)
+    run = FreeTurns(net, -min(list(late.values()), default=0), table)
+    inputs, gates, outs, _ = net.rows()
+    moved = []
+    for name, symbol, edges in gates:
+        # What the gate reads before its former turn 0 is told by its past values, the earliest one first.
+        before = pasts.numbers_of(name)[:max(0, late[name])][::-1]
+        told = [[table.row(number)[1][slot] for number in before] for slot in range(len(edges))]
+        moved.append((name, symbol, _lagged_edges(run, edges, late, late[name], told)))
+    return run.begun(inputs, moved, _lagged_edges(run, outs, late, 0, [[] for _ in outs]))
 
 
 def _lagged_edges(run, edges, late, lag, told):

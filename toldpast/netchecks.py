@@ -14,7 +14,7 @@ def check_parts(inputs, gates, outs, terms):
     names = {}
     _check_inputs(inputs, names)
     _check_gates(gates, names)
-    _check_terms(terms)
+    check_terms(terms)
     _check_edges(gates, outs, names, len(terms))
     _check_ways(inputs, gates, outs)
 
@@ -47,7 +47,7 @@ def _check_gates(gates, names):
             raise InvalidPart(edges)
 
 
-def _check_terms(terms):
+def check_terms(terms):
     """Raise an exception if an item of a list is not a term row that may stand at its place."""
     for index, item in enumerate(terms):
         if not is_list(item) or len(item) != 2 or not is_list(item[1]) or len(item[1]) > MOST_ARGUMENTS:

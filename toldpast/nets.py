@@ -132,8 +132,13 @@ def require_pair(one, other):
     """Raise an exception if two values are not networks with the same inputs and with as many outs."""
     require_net(one)
     require_net(other)
-    if one.inputs() != other.inputs() or len(one.outs()) != len(other.outs()):
+    if not are_comparable(one, other):
         raise Mismatch(other)
+
+
+def are_comparable(one, other):
+    """Tell whether two networks have the same inputs and as many outs."""
+    return one.inputs() == other.inputs() and len(one.outs()) == len(other.outs())
 
 
 def require_gate(net, name):

@@ -61,6 +61,11 @@ def moved_row(row, places):
     return row[0], tuple([places[number] for number in row[1]])
 
 
+def shifted_rows(terms, shift):
+    """Return term rows as they stand behind some other rows of a list."""
+    return [(symbol, tuple([number + shift for number in numbers])) for symbol, numbers in terms]
+
+
 def free_meaning(table, symbols):
     """Return the free meaning of some symbols: values are numbers of terms in a table."""
     return {symbol: _builder(table, symbol) for symbol in symbols}
