@@ -275,6 +275,11 @@ class TestBar(unittest.TestCase):
         net = Net(["x"], gate, [("g", [1, 1]), ("g", [1])], terms)
         self.assertEqual(([("g", 2)], "out", [(1, 0)]), bar(net, "g"))
 
+    def test_of_many_unlike_terms_two_edges_are_told(self):
+        terms = [("a", ()), ("b", ()), ("f", (0,)), ("f", (1,)), ("f", (2,))]
+        net = Net(["x"], [("g", "f", [("x", [])])], [("g", [n]) for n in (2, 2, 3, 4, 3)], terms)
+        self.assertEqual(("unlike", 1), self.check_bar(net, "g"))
+
     def test_a_way_over_readers(self):
         terms = [("a", ()), ("f", (0,)), ("f", (1,))]
         gates = [("p", "f", [("x", [])]), ("q", "f", [("p", [])]), ("r", "f", [("q", [1])])]

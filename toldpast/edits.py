@@ -89,11 +89,10 @@ def _insert(net, reader, slot, name, symbol):
 
 def _bypass(net, gate):
     """Take a gate with one edge away; what it was the source of gets the source of that edge."""
-    require_gate(net, gate)
-    inputs, gates, outs, terms = net.rows()
     edges = net.edges(gate)
     if len(edges) > 1:
         raise InvalidPart(gate)
+    inputs, gates, outs, terms = net.rows()
     kept = [(name, symbol, _past_gate(inner, gate, edges[0])) for name, symbol, inner in gates if name != gate]
     return Net(inputs, kept, _past_gate(outs, gate, edges[0]), terms)
 

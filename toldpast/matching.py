@@ -65,7 +65,8 @@ class Matching:
     def _are_of_one_kind(self, name, other_name):
         """Tell whether two sources are the same input, or two gates with the same symbol."""
         if not self._one.has_gate(name) or not self._other.has_gate(other_name):
-            return name == other_name and not self._one.has_gate(name) and not self._other.has_gate(other_name)
+            # Both networks have the same inputs, so no gate of one has the name of an input of the other.
+            return name == other_name
         symbol, edges = self._one[name]
         other_symbol, other_edges = self._other[other_name]
         return symbol == other_symbol and len(edges) == len(other_edges)

@@ -56,7 +56,7 @@ class Session:
         if not is_list(lines):
             raise InvalidPart(lines)
         for item in lines:
-            if isinstance(item, str) and item in ("undo", "redo"):
+            if item in ("undo", "redo"):
                 raise InvalidCommand(item)
         self._busy = True
         try:

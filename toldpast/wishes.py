@@ -91,15 +91,14 @@ def _bounds_between(one, other, low, high, delays, reason):
 def shows_none(net, wishes, ring):
     """Tell whether a value is a ring of bounds, which shows that no allowed lags satisfy all wishes."""
     limits = bounds(net, wishes)
-    if not is_list(ring) or not ring:
-        return False
-    if not all([_is_among(item, limits) for item in ring]):
+    if not is_list(ring) or not all([_is_among(item, limits) for item in ring]):
         return False
     firsts = [item[0] for item in ring]
     seconds = [item[1] for item in ring]
     different = {first: True for first in firsts}
-    closed = seconds == firsts[1:] + firsts[:1]
-    return closed and len(different) == len(ring) and sum([item[2] for item in ring]) < 0
+    closed = seconds == firsts[1:] + firsts[:1] and len(different) == len(firsts)
+    # An empty list has the sum 0, and is no ring.
+    return closed and sum([item[2] for item in ring]) < 0
 
 
 def _is_among(value, bounds_told):
